@@ -1,0 +1,1 @@
+"""Cascade: a machine taken apart into a row of simple ones."""
