@@ -30,6 +30,10 @@ BARRED_WORDS = re.compile(
     r"\b(type|typing|typing_extensions|enum|Enum|IntEnum|StrEnum|Flag|IntFlag|Generic|Protocol|ABC|ABCMeta|namedtuple"
     r"|NamedTuple|TypedDict|TYPE_CHECKING|abstractmethod)\b|dataclass|overload|contextmanager"
 )
+WALKED = {"zip", "enumerate", "reversed", "range", "items", "keys", "values"}
+WALKERS = {"list", "tuple", "dict", "sorted", "sum", "any", "all", "enumerate", "zip", "min", "max", "join"}
+KEYWORDS = {"sorted": {"key", "reverse"}, "min": {"key", "default"}, "max": {"key", "default"}, "sum": {"start"},
+            "enumerate": {"start"}, "zip": {"strict"}}
 BARRED_NAMES = {"register", "mro", "elements", "open", "input", "version_info", "with_traceback", "add_note", "format",
                 "format_map"}
 
@@ -155,9 +159,68 @@ def own_methods(trees):
     return found
 
 
+def called(node):
+    """The name by which a call calls, or None."""
+    if not isinstance(node, ast.Call):
+        return None
+    return node.func.attr if isinstance(node.func, ast.Attribute) else getattr(node.func, "id", None)
+
+
+def is_walked(node, parent):
+    if isinstance(parent, (ast.For, ast.comprehension)):
+        return parent.iter is node
+    return called(parent) in WALKERS and parent.args[:1] == [node] or called(parent) == "zip"
+
+
+def is_asked(parent, node):
+    """Whether a set stands where it is neither kept nor walked."""
+    if isinstance(parent, ast.BinOp):
+        return isinstance(parent.op, (ast.Sub, ast.BitAnd, ast.BitOr, ast.BitXor))
+    if isinstance(parent, ast.Compare):
+        return all(isinstance(sign, (ast.In, ast.NotIn, ast.Eq, ast.NotEq)) for sign in parent.ops)
+    return called(parent) in {"sorted", "len"} and not parent.keywords and parent.args == [node]
+
+
+def pair_faults(node, parent, own):
+    """What is seen of a call by what it stands in."""
+    name = called(node)
+    faults = []
+    if name in WALKED and not is_walked(node, parent):
+        faults.append(f"L23 {name}")
+    if name in {"set", "frozenset"} and not is_asked(parent, node):
+        faults.append(f"L24 {name}")
+    given = {word.arg for word in node.keywords} if isinstance(node, ast.Call) else set()
+    if name in OWN_NAMES | METHODS and name not in own and not given <= KEYWORDS.get(name, set()):
+        faults.append(f"L22 {name}")
+    if isinstance(node, ast.Attribute) and node.attr in METHODS - own:
+        if not isinstance(parent, (ast.Call, ast.keyword)) or isinstance(parent, ast.Call) and parent.func is not node:
+            faults.append(f"L25 {node.attr} handed on")
+    if isinstance(node, ast.BinOp) and isinstance(node.op, ast.Pow) and not isinstance(node.right, ast.Constant):
+        faults.append("L27 a power")
+    if isinstance(node, ast.Constant) and isinstance(node.value, str) and "%" in node.value:
+        faults.append("L27 a sign in a text")
+    return faults
+
+
+def place_faults(tree, own):
+    faults = []
+    for parent in ast.walk(tree):
+        for node in ast.iter_child_nodes(parent):
+            faults += pair_faults(node, parent, own)
+    return faults
+
+
+def hidden_faults(tree):
+    """Parameters and locals that are called like an import, a class or a function of the file."""
+    tops = [name.name for node in tree.body if isinstance(node, ast.ImportFrom) for name in node.names]
+    tops += [node.name for node in tree.body if isinstance(node, (ast.ClassDef, ast.FunctionDef))]
+    return [f"L15 {name}" for name, stored in names_of(tree) if stored and name in tops]
+
+
 def faults_of(source, methods):
     tree = ast.parse(source)
     faults = text_faults(source) + top_faults(tree) + name_faults(tree)
+    faults += hidden_faults(tree) + place_faults(tree, methods)
     for node in ast.walk(tree):
         faults += node_faults(node)
     faults += [f"L25 {name}" for name in called_methods(tree) if name not in METHODS | methods | SPECIAL]
@@ -206,6 +269,15 @@ class RulesSee(unittest.TestCase):
     def test_plain_code_has_no_fault(self):
         self.assertEqual(faults_of('"""Why."""\nMOST = 4\n\n\ndef told(room):\n    return [room]\n', set()), [])
 
+    def test_sets_and_walks_on_the_spot_have_no_fault(self):
+        for source in (
+            "def a(b):\n    return sorted(set(b) - set([1]))\n", "def a(b):\n    return set(b) == set([1])\n",
+            "def a(b):\n    return list(b.items())\n", "def a(b):\n    return [c for c, d in enumerate(b)]\n",
+            "def a(b):\n    for c in range(b):\n        c.append(b)\n", "def a(b):\n    return b in set([1])\n",
+            "def a(b):\n    return sorted(b, key=len, reverse=True)\n", "def a(b):\n    return b ** 2\n",
+        ):
+            self.assertEqual(faults_of(source, set()), [], source)
+
     def test_what_breaks_a_rule_is_seen(self):
         for source in (
             "import os\n", "from os import path\n", "from . import turns\n", "A = 1\nA = 2\n", "print(1)\n",
@@ -217,6 +289,11 @@ class RulesSee(unittest.TestCase):
             "def a(b):\n    assert b\n", "def a(b):\n    return [c for d in b for c in d]\n", "# " + "a" * 120 + "\n",
             "A = '\u00e4'\n", "# an enum\n", "def a(b):\n    try:\n        pass\n    finally:\n        pass\n",
             "def a():\n" + "    pass\n" * 40, "pass\n" * 401, "def a(b):\n    return chr(b)\n",
+            "from cascade.b import c\n\n\ndef a(c):\n    return c\n", "def a(b):\n    a = b\n    return a\n",
+            "def a(b):\n    c = set(b)\n    return c\n", "def a(b):\n    return [c for c in set(b)]\n",
+            "def a(b):\n    return sorted(set(b), key=len)\n", "def a(b):\n    c = zip(b, b)\n    return c\n",
+            "def a(b):\n    return b.items()\n", "def a(b):\n    return b.split(sep=' ')\n", "A = 'a %'\n",
+            "def a(b):\n    return 2 ** b\n", "def a(b):\n    return b.append\n",
         ):
             self.assertNotEqual(faults_of(source, set()), [], source)
 
