@@ -22,17 +22,18 @@ KNOWN = (
 )
 
 
+def figures(seed):
+    """Whole numbers without end, the same ones each time."""
+    while True:
+        seed = (seed * 6364136223846793005 + 1442695040888963407) % 2 ** 64
+        yield seed >> 33
+
+
 def drawn(rooms, letters, count):
     """So many machines, the same ones each time."""
-    made = []
-    seed = 1000 * rooms + letters
-    for number in range(count):
-        figures = []
-        for place in range(rooms * letters):
-            seed = (seed * 6364136223846793005 + 1442695040888963407) % 2 ** 64
-            figures.append((seed >> 33) % rooms)
-        made.append(tuple(tuple(figures[at:at + rooms]) for at in range(0, rooms * letters, rooms)))
-    return made
+    draw = figures(1000 * rooms + letters)
+    return [tuple(tuple(next(draw) % rooms for room in range(rooms)) for letter in range(letters))
+            for number in range(count)]
 
 
 def every(rooms, letters):
@@ -106,3 +107,17 @@ def own_lists(case, ask, *handed):
     spoil(told)
     case.assertEqual(ask(*handed), before)
     case.assertEqual(handed, kept)
+
+
+def some_rows(counts, most):
+    """All rows of rooms, where there are at most so many, else so many of them: the first, the last and drawn ones."""
+    rows = 1
+    for count in counts:
+        rows *= count
+    if rows <= most:
+        return list(itertools.product(*[range(count) for count in counts]))
+    draw = figures(rows)
+    found = [tuple(0 for count in counts), tuple(count - 1 for count in counts)]
+    while len(found) < most:
+        found.append(tuple(next(draw) % count for count in counts))
+    return found

@@ -37,6 +37,9 @@ KEYWORDS = {"sorted": {"key", "reverse"}, "min": {"key", "default"}, "max": {"ke
 BARRED_NAMES = {"register", "mro", "elements", "open", "input", "version_info", "with_traceback", "add_note", "format",
                 "format_map"}
 
+PYTHONS_OWN = {name for kind in (str, int, list, tuple, dict, set, frozenset, bytes, bool) for name in dir(kind)}
+FREE_VALUES = set("count index title find get join lower upper split strip copy add".split())
+
 
 def text_faults(source):
     faults = []
@@ -159,6 +162,19 @@ def own_methods(trees):
     return found
 
 
+def own_values(trees):
+    return {node.attr for tree in trees for node in ast.walk(tree)
+            if isinstance(node, ast.Attribute) and isinstance(node.ctx, ast.Store)}
+
+
+def class_name_faults(trees):
+    methods = own_methods(trees)
+    values = own_values(trees)
+    faults = [f"L18 {name}" for name in methods & values]
+    faults += [f"L26 {name}" for name in (methods - SPECIAL - METHODS - {"add", "discard"}) & PYTHONS_OWN]
+    return faults + [f"L26 {name}" for name in (values - FREE_VALUES) & PYTHONS_OWN | values & {"args"}]
+
+
 def called(node):
     """The name by which a call calls, or None."""
     if not isinstance(node, ast.Call):
@@ -247,6 +263,9 @@ class Form(unittest.TestCase):
         for name, source in self.sources.items():
             self.assertEqual(faults_of(source, methods), [], name)
 
+    def test_names_of_methods_and_values(self):
+        self.assertEqual(class_name_faults(self.trees.values()), [])
+
     def test_names_are_drawn_from_the_file_that_defines_them(self):
         for tree in self.trees.values():
             for node in tree.body:
@@ -277,6 +296,13 @@ class RulesSee(unittest.TestCase):
             "def a(b):\n    return sorted(b, key=len, reverse=True)\n", "def a(b):\n    return b ** 2\n",
         ):
             self.assertEqual(faults_of(source, set()), [], source)
+
+    def test_names_of_methods_and_values_that_break_a_rule_are_seen(self):
+        head = "class A:\n    def b(self):\n"
+        self.assertEqual(class_name_faults([ast.parse(head + "        self.c = 1\n        self.count = 2\n")]), [])
+        for source in (head + "        self.b = 1\n", head + "        self.items = 1\n", head + "        self.args = 1\n",
+                       "class A:\n    def encode(self):\n        pass\n", "class A:\n    def sort(self):\n        pass\n"):
+            self.assertNotEqual(class_name_faults([ast.parse(source)]), [], source)
 
     def test_what_breaks_a_rule_is_seen(self):
         for source in (

@@ -15,6 +15,13 @@ TOLD = {
                "tile(machine, level, k, j)"),
     "covers": ("covers(machine)",),
     "tilings": ("tiles_turned(machine, level, k, letter)", "level_group(machine, level)", "rests(machine, level)"),
+    "about": ("all_rests(machine, most=400)", "about(machine)"),
+    "papers": ("own_turns(machine, level, most=400)",),
+}
+
+METHODS = {
+    "rows.Row(machine)": ("parts()", "told(row)", "moved(row, letter)", "move(n, ahead, letter)", "row_of(room)",
+                          "gone(row, word)"),
 }
 
 
@@ -25,6 +32,17 @@ class Interface(unittest.TestCase):
             for told in functions:
                 name = told.partition("(")[0]
                 self.assertEqual(name + str(inspect.signature(getattr(module, name))), told)
+
+    def test_each_class_is_there_as_told(self):
+        for told, methods in METHODS.items():
+            place, dot, made = told.partition(".")
+            name = made.partition("(")[0]
+            found = getattr(importlib.import_module(f"cascade.{place}"), name)
+            self.assertEqual(name + str(inspect.signature(found)), made)
+            for method in methods:
+                asked = method.partition("(")[0]
+                alone = str(inspect.signature(getattr(found, asked))).replace("self, ", "").replace("self", "")
+                self.assertEqual(asked + alone, method)
 
 
 if __name__ == "__main__":
