@@ -121,3 +121,22 @@ def some_rows(counts, most):
     while len(found) < most:
         found.append(tuple(next(draw) % count for count in counts))
     return found
+
+
+def slow_words(start, letters, step):
+    """The least word to each thing: whatever word is known gives way to one ahead of it, until none does."""
+    found = {start: []}
+    changed = True
+    while changed:
+        changed = False
+        for thing, word in list(found.items()):
+            for letter in range(letters):
+                end = step(thing, letter)
+                if end not in found or word_place(word + [letter]) < word_place(found[end]):
+                    found[end] = word + [letter]
+                    changed = True
+    return found
+
+
+def in_order_of_words(found):
+    return sorted(found, key=lambda thing: word_place(found[thing]))

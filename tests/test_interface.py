@@ -17,11 +17,15 @@ TOLD = {
     "tilings": ("tiles_turned(machine, level, k, letter)", "level_group(machine, level)", "rests(machine, level)"),
     "about": ("all_rests(machine, most=400)", "about(machine)"),
     "papers": ("own_turns(machine, level, most=400)",),
+    "together": ("together(machine, room, most=400)",),
+    "least": ("parting(turns, seen, one, other)", "least(turns, seen, start)"),
+    "texts": ("read(text)", "shown(names, machine)"),
 }
 
 METHODS = {
     "rows.Row(machine)": ("parts()", "told(row)", "moved(row, letter)", "move(n, ahead, letter)", "row_of(room)",
                           "gone(row, word)"),
+    "hall.Hall(text)": ("say(row)",),
 }
 
 
